@@ -1,0 +1,1 @@
+"""Turnedline: whole parts along a line, summed."""
