@@ -26,6 +26,18 @@ FUNCTIONS = {
         "sum_parts": ["line", "n"], "sum_rests": ["line", "n"],
         "sum_between": ["line", "low", "high"],
     },
+    "squares": {
+        "sum_squares": ["line", "n"], "sum_placed": ["line", "n"],
+        "sum_rest_squares": ["line", "n"], "sum_rest_placed": ["line", "n"],
+    },
+    "rests": {
+        "rests_beneath": ["line", "n", "bound"], "first_within": ["line", "low", "high"],
+        "in_order": ["line", "n", "number"],
+    },
+    "points": {
+        "points_between": ["above", "beneath", "low", "high"],
+        "ends_between": ["above", "beneath", "low", "high"],
+    },
 }
 
 

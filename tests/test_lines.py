@@ -3,8 +3,9 @@
 import unittest
 
 import slow
+from cases import Case
 from slow import BIG, BIGGER, BIGGEST
-from turnedline.errors import LineError, NoLine, NoText, NoTurn
+from turnedline.errors import NoLine, NoText, NoTurn
 from turnedline.lines import laid_off, line_shown, part_at, read_line, rest_at, turned
 from turnedline.sums import sum_parts
 
@@ -12,24 +13,7 @@ PLACES = (0, 1, -1, 2, -2, 17, BIG, -BIG, BIGGEST, -BIGGEST)
 NO_MS = (0, -1, -2, -7, -BIG, -BIGGEST)
 
 
-class LineTest(unittest.TestCase):
-
-    def assert_whole(self, *numbers):
-        for number in numbers:
-            self.assertIs(type(number), int)
-
-    def assert_line(self, line):
-        self.assertIs(type(line), tuple)
-        self.assertEqual(len(line), 3)
-        self.assert_whole(*line)
-
-    def assert_refused(self, kind, action, *handed):
-        with self.assertRaises(LineError) as caught:
-            action(*handed)
-        self.assertIs(type(caught.exception), kind)
-
-
-class PartsAndRests(LineTest):
+class PartsAndRests(Case):
 
     def test_as_written_out(self):
         for line, place, part, rest in (
@@ -79,7 +63,7 @@ class PartsAndRests(LineTest):
         self.assertEqual(rest_at((great, 1, great), -great), 1)
 
 
-class NoLines(LineTest):
+class NoLines(Case):
 
     def test_each_function_refuses(self):
         for m in NO_MS:
@@ -104,7 +88,7 @@ class NoLines(LineTest):
         self.assertEqual(read_line("2 3 1"), (2, 3, 1))
 
 
-class LayingOff(LineTest):
+class LayingOff(Case):
 
     def test_as_written_out(self):
         for line, told in (
@@ -134,7 +118,7 @@ class LayingOff(LineTest):
             self.assertTrue(0 <= line[0] < m and 0 <= line[1] < m, (a, b, m))
 
 
-class Turning(LineTest):
+class Turning(Case):
 
     def test_as_written_out(self):
         for line, n, told in (
@@ -212,7 +196,7 @@ class Turning(LineTest):
                 self.assert_refused(NoLine, turned, (a, b, m), 3)
 
 
-class Texts(LineTest):
+class Texts(Case):
 
     def test_as_written_out(self):
         for line, text in (
@@ -292,7 +276,7 @@ class Texts(LineTest):
                 self.assert_refused(NoLine, read_line, text)
 
 
-class Asking(LineTest):
+class Asking(Case):
 
     def test_asked_again_is_answered_the_same(self):
         for line in ((7, -3, 5), (2, 3, 5), (BIG, -BIGGEST, BIGGER)):

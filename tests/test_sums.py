@@ -4,8 +4,9 @@ import unittest
 from math import gcd
 
 import slow
+from cases import Case
 from slow import BIG, BIGGER, BIGGEST
-from turnedline.errors import LineError, NoLine, NoStretch
+from turnedline.errors import NoLine, NoStretch
 from turnedline.lines import part_at, rest_at
 from turnedline.sums import sum_between, sum_parts, sum_rests
 
@@ -41,19 +42,7 @@ def rests_of_whole_turns(line, turns):
     return turns * one_turn
 
 
-class SumTest(unittest.TestCase):
-
-    def assert_tells(self, told, expected, asked=None):
-        self.assertIs(type(told), int)
-        self.assertEqual(told, expected, asked)
-
-    def assert_refused(self, kind, action, *handed):
-        with self.assertRaises(LineError) as caught:
-            action(*handed)
-        self.assertIs(type(caught.exception), kind)
-
-
-class AsWrittenOut(SumTest):
+class AsWrittenOut(Case):
 
     def test_parts_and_rests(self):
         for line, n, parts, rests in (
@@ -88,7 +77,7 @@ class AsWrittenOut(SumTest):
                 self.assert_tells(sum_between(line, low, high), told)
 
 
-class PlaceByPlace(SumTest):
+class PlaceByPlace(Case):
 
     def test_small_lines(self):
         for line in slow.small_lines():
@@ -130,7 +119,7 @@ class PlaceByPlace(SumTest):
                 self.assert_tells(sum_between(line, low, high), told, (line, low, high))
 
 
-class NoPlacesAtAll(SumTest):
+class NoPlacesAtAll(Case):
 
     def test_they_sum_to_nothing(self):
         for line in slow.great_lines():
@@ -140,7 +129,7 @@ class NoPlacesAtAll(SumTest):
                 self.assert_tells(sum_between(line, place, place), 0)
 
 
-class SixtyFigures(SumTest):
+class SixtyFigures(Case):
 
     def test_small_m_by_classes(self):
         for m in (1, 2, 3, 7, 12, 101):
@@ -221,10 +210,7 @@ class SixtyFigures(SumTest):
         self.assert_tells(sum_rests(line, BIG + 5), places_sum(0, BIG) + 10)
 
     def test_many_turnings(self):
-        # Neighbours in this row take the most turnings that numbers of sixty figures can.
-        small, great = 1, 1
-        while small + great < 10 ** 60:
-            small, great = great, small + great
+        small, great = slow.golden_pair()
         for line in ((small, 0, great), (great, small, great), (great - small, great - 1, great)):
             rests = rests_of_whole_turns(line, 1)
             self.assert_tells(sum_rests(line, great), rests)
@@ -239,7 +225,7 @@ class SixtyFigures(SumTest):
         self.assert_tells(sum_between((1, 0, 1), -n, n), -n)
 
 
-class Refusals(SumTest):
+class Refusals(Case):
 
     def test_no_line(self):
         for m in NO_MS:
@@ -265,7 +251,7 @@ class Refusals(SumTest):
                 self.assert_refused(NoLine, sum_between, (3, 2, m), low, high)
 
 
-class Asking(SumTest):
+class Asking(Case):
 
     def test_asked_again_is_answered_the_same(self):
         for line in ((7, -3, 5), (BIG, -BIGGEST, BIGGER)):

@@ -4,6 +4,12 @@ from turnedline.errors import NoStretch
 from turnedline.lines import check_line, height_at, laid_off, turned
 
 
+def check_stretch(low, high):
+    """Refuse with NoStretch an end that is less than the beginning."""
+    if high < low:
+        raise NoStretch("the end of a stretch is no less than its beginning")
+
+
 def sum_places(n):
     """Tell the sum of the places from 0 on, n of them."""
     return n * (n - 1) // 2
@@ -30,8 +36,7 @@ def sum_rests(line, n):
 def sum_between(line, low, high):
     """Tell the sum of a line's parts from the place low on, ahead of the place high."""
     check_line(line)
-    if high < low:
-        raise NoStretch("a stretch ends at a place no less than its first one")
+    check_stretch(low, high)
     # The same line, seen from low on: its place 0 is the other one's low.
     moved = (line[0], height_at(line, low), line[2])
     return sum_parts(moved, high - low)
