@@ -100,3 +100,57 @@ def points(above, beneath, low, high):
         if here > 0:
             found.append(x)
     return total, (found[0], found[-1]) if found else None
+
+
+def word(line, n):
+    """The text of going along a line: r, then a u for each that the next place's part is greater."""
+    letters = ""
+    for place in range(n):
+        letters += "r" + "u" * (part(line, place + 1) - part(line, place))
+    return letters
+
+
+def map_of_word(letters, over, up, k):
+    """The map that does the letters one by one; 0 and 1 are led along, and tell where all go."""
+    def led(x):
+        for letter in letters:
+            p, q = over if letter == "r" else up
+            x = (p * x + q) % k
+        return x
+
+    q = led(0)
+    return ((led(1) - q) % k, q)
+
+
+def repeated_map(step, times, k):
+    """The map that does a map so many times, by the sum of a row of powers."""
+    p, q = step
+    if times == 0:
+        return (1 % k, 0)
+    if p == 0:
+        return (0, q)
+    if p == 1:
+        return (1 % k, q * times % k)
+    power = pow(p, times, k * (p - 1))
+    return (power % k, q * ((power - 1) // (p - 1)) % k)
+
+
+def chained_maps(maps, k):
+    """The map that does all of the maps, one behind the other."""
+    p, q = 1 % k, 0
+    for next_p, next_q in maps:
+        p, q = p * next_p % k, (q * next_p + next_q) % k
+    return (p, q)
+
+
+def paper(line, n):
+    """The rows of a paper as the document makes them, with sums of place by place."""
+    rows = []
+    while True:
+        a, b, m = line
+        rows.append((n, line, sum_of_parts(line, range(n))))
+        low_a, low_b = rest((0, a, m), 0), rest((0, b, m), 0)
+        k = part((low_a, low_b, m), n)
+        if k == 0:
+            return tuple(rows)
+        line, n = (m, rest((low_a, low_b, m), n), low_a), k
